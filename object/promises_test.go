@@ -127,7 +127,7 @@ func (a author) change(body string) string {
 func TestChangedBodies(t *testing.T) {
 	a := newAuthor(6)
 	count := map[api.Errno]int{}
-	for _, p := range programs(12000, 7) {
+	for _, p := range programs(30000, 7) {
 		body := joined(pieces(p))
 		for range a.IntN(2) + 1 {
 			body = a.change(body)
@@ -144,7 +144,7 @@ func TestChangedBodies(t *testing.T) {
 		}
 		count[e]++
 	}
-	if count[api.OK] < 500 || count[api.ErrForm] < 2000 || count[api.ErrArg] < 500 {
+	if count[api.OK] < 1000 || count[api.ErrForm] < 5000 || count[api.ErrArg] < 1000 {
 		t.Error(count)
 	}
 }
