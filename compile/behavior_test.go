@@ -10,6 +10,7 @@ import (
 	"interleave/code"
 	"interleave/fold"
 	"interleave/parse"
+	"interleave/squeeze"
 	"interleave/syntax"
 )
 
@@ -80,7 +81,7 @@ func budgetDifference(a, b *world) string {
 	return ""
 }
 
-const mostSteps = 200
+const mostSteps = 400
 
 // counts are how often something occurred in runs.
 type counts map[string]int
@@ -184,62 +185,51 @@ func TestBehavior(t *testing.T) {
 	checkSeen(t, seen, 3, faultKeys(api.FaultNil, api.FaultIndex, api.FaultDivide, api.FaultClosed, api.FaultUnlock, api.FaultGroup, api.FaultSize, api.FaultMemory)...)
 }
 
-// windowed returns the program of a file in which every function has a window for one of its literals, and the number of windows. It
-// need not be within the limits.
-func windowed(f api.Node, c *chooser) (api.Program, int) {
+// squeezed returns the program of a file in which the functions have as few registers as package squeeze finds, or somewhat more.
+func squeezed(t *testing.T, f api.Node, c *chooser, seen counts) api.Program {
+	t.Helper()
 	tables := newTables(&f)
 	p := api.Program{Globals: tables.globals, Layouts: tables.layouts, Main: tables.main}
-	windows := 0
 	for _, fn := range tables.functions {
-		var captures []api.Capture
-		if l := literals(fn.node); len(l) > 0 {
-			captures = tables.functions[tables.inner[pick(c, l)]].captures
-			windows += min(len(captures), 1)
+		generated := generate(tables, fn)
+		least := generated
+		for limit, ok := generated.Regs-1, true; ok && c.below(20) > 0; limit-- {
+			var smaller api.Func
+			if smaller, ok = squeeze.Func(generated, tables.params(), limit); ok {
+				least = smaller
+			}
 		}
-		p.Funcs = append(p.Funcs, attempt(tables, fn, captures))
+		p.Funcs = append(p.Funcs, least)
+		seen["registers before"] += generated.Regs
+		seen["registers after"] += least.Regs
+		seen["instructions before"] += len(generated.Code)
+		seen["instructions after"] += len(least.Code)
 	}
-	return p, windows
+	return p
 }
 
-// checkWindowed requires that the windowed program of a file does what its tree specifies, and returns the number of windows.
-func checkWindowed(t *testing.T, f api.Node, c *chooser, seen counts) int {
-	t.Helper()
-	p, windows := windowed(f, c)
-	if windows == 0 || !code.Valid(p) {
-		return 0
-	}
-	a, b := compiled(p), walked(newTree(f))
-	defer b.stop()
-	if d := run(a, b, c, seen, memoryDifference, budgetDifference); d != "" {
-		t.Fatalf("%s\n%s", syntax.Print(f), d)
-	}
-	return windows
-}
-
-// P11.2: windows do not change what programs do.
-func TestWindows(t *testing.T) {
+// P11.2: programs with few registers do what their trees specify. They need no more instructions in all, and with the smallest numbers
+// of registers hardly ever more local ones than the chapter permits.
+func TestFewRegisters(t *testing.T) {
 	w := &author{chooser: &chooser{state: 11}, literals: true}
-	seen, windows := counts{}, 0
+	seen := counts{}
 	for _, s := range texts(100, w) {
-		windows += checkWindowed(t, annotated(t, parsed(t, s)), w.chooser, seen)
-	}
-	if windows < 400 {
-		t.Error(windows)
-	}
-	for _, s := range []string{
-		"a := 1; func() { a = a + 1 }(); print(a)",
-		"a := 1; b := 2; func() { c := 3; d := 4; func() { print(a + b + d); d = 5 }(); print(c); print(d) }(); print(a + b)",
-		"a := 1; b := 2; func() { c := a; var d int; e := b; func() { d = e; print(b) }(); print(c + d * e) }(); print(a + b)",
-		"a := 1; i := 0; for i < 3 { b := i; i = i + 1; func() { a = a + b; b = a }(); print(a * b) }",
-		"a := 1; b := 2; f := func() { print(a - b) }; f(); f = func() { print(b - a) }; f(); { c := a; f = func() { print(a - b) }; f(); print(c) }",
-		"a := 1; k(a, func() { a = 2 }, a); print(a); defer func() { print(a) }(); go func() { a = 3 }()",
-		"c := make(chan int, 1); c <- 5; select { case a := <-c: func() { print(a); c <- a }(); print(a + <-c) }",
-	} {
-		f := annotated(t, parsed(t, "func k(a int, f func(), b int) { f(); func() { a = b }(); print(a) }; func main() { "+s+" }"))
-		if checkWindowed(t, f, w.chooser, seen) == 0 {
-			t.Error(s)
+		f := annotated(t, parsed(t, s))
+		p := squeezed(t, f, w.chooser, seen)
+		a, b := compiled(p), walked(newTree(f))
+		if d := run(a, b, w.chooser, seen, memoryDifference); d != "" || !code.Valid(p) {
+			t.Fatalf("%s\n%s\n%s", s, d, code.Text(p))
 		}
+		if len(a.gs) == len(b.gs) && budgetDifference(a, b) != "" {
+			seen["over budget"]++
+		}
+		b.stop()
 	}
+	if 4*seen["registers after"] > 3*seen["registers before"] || seen["instructions after"] > seen["instructions before"] || seen["over budget"] > 3 {
+		t.Error(seen)
+	}
+	checkSeen(t, seen, 400, "end")
+	checkSeen(t, seen, 20, "new", "slice", "chan", "closure", "go", "goc", "select", "group", "once", "print")
 }
 
 // P11.3: sequential programs print the values and fail with the faults of their trees.

@@ -2,14 +2,16 @@ package compile
 
 import "interleave/api"
 
-// choice generates a select statement.
+// choice generates a select statement. The results of the instruction share registers with its operands, so that the evaluation of
+// the operands does not need others besides.
 func (g *generator) choice(n *api.Node) {
-	received, chosen := g.fresh(), g.fresh()
+	received := g.next
 	alternatives := communications(n)
 	cases := make([]api.Instr, len(alternatives))
 	for i, c := range alternatives {
 		cases[i] = g.communication(c, received)
 	}
+	chosen := g.reuse(received + 1)
 	hasDefault := 0
 	for i := range n.Kids {
 		if c := &n.Kids[i]; c.Kids[0].Kind == api.NNone {

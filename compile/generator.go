@@ -7,7 +7,6 @@ import "interleave/api"
 type generator struct {
 	*tables
 	variables
-	window
 	expressions map[int]func(n *api.Node) int // by kinds of nodes; they return the register of the value
 	statements  map[int]func(n *api.Node)
 	code        []api.Instr
@@ -15,40 +14,13 @@ type generator struct {
 	regs        int
 }
 
-// generate returns the code of a function, and whether it is within the limits. If it needs too many registers, it is generated again
-// with a window for one of its literals.
-func generate(t *tables, f function) (api.Func, bool) {
-	generated := attempt(t, f, nil)
-	for _, literal := range literals(f.node) {
-		if generated.Regs <= api.MaxRegs || len(generated.Code) > api.MaxCode {
-			break
-		}
-		generated = attempt(t, f, t.functions[t.inner[literal]].captures)
-	}
-	return generated, generated.Regs <= api.MaxRegs && len(generated.Code) <= api.MaxCode
-}
-
-// attempt returns the code of a function, in which there is a window for some captured variables, unless there are none.
-func attempt(t *tables, f function, captures []api.Capture) api.Func {
+// generate returns the code of a function, which may have any number of registers and instructions.
+func generate(t *tables, f function) api.Func {
 	g := &generator{tables: t, variables: newVariables(f), next: f.params, regs: f.params}
 	g.expressions, g.statements = g.expressionTable(), g.statementTable()
-	g.reserve(captures)
 	f.body(g)
 	g.emit(f.node, api.OpReturn, -1, 0, 0)
 	return api.Func{Name: f.name, Params: f.params, Regs: g.regs, Code: g.code}
-}
-
-// literals returns the literals within a node that are not within another one.
-func literals(n *api.Node) []*api.Node {
-	var l []*api.Node
-	for i := range n.Kids {
-		if k := &n.Kids[i]; k.Kind == api.NLiteral {
-			l = append(l, k)
-		} else {
-			l = append(l, literals(k)...)
-		}
-	}
-	return l
 }
 
 // emit adds an instruction of a node.

@@ -1,6 +1,9 @@
 package compile
 
-import "interleave/api"
+import (
+	"interleave/api"
+	"interleave/squeeze"
+)
 
 const maxCases = 8 // of a select statement, other than default
 
@@ -13,6 +16,18 @@ func (t *tables) fit() bool {
 	}
 	return len(t.functions) <= api.MaxFuncs && len(t.globals) <= api.MaxGlobals && len(t.layouts) <= api.MaxLayouts
 }
+
+// shrink returns a function with the same behavior that is within the limits, and false if none is found. The generator gives every
+// variable a register up to the end of its scope, and every operand up to the instruction that needs it; few functions are so large
+// that this is too much.
+func shrink(t *tables, f api.Func) (api.Func, bool) {
+	if fits(f) {
+		return f, true
+	}
+	return squeeze.Func(f, t.params(), api.MaxRegs)
+}
+
+func fits(f api.Func) bool { return f.Regs <= api.MaxRegs && len(f.Code) <= api.MaxCode }
 
 // selectsFit reports whether no select statement within a node has too many cases.
 func selectsFit(n *api.Node) bool {

@@ -62,17 +62,50 @@ func TestLimitsOfTables(t *testing.T) {
 	checkLimit(t, "func main() { c := make(chan int, 1); select { case <-c: select { @} } }", "case <-c:\n", 8)
 }
 
-// P11.1: registers and instructions. The last file of each row that is accepted has as many as a function can have.
+// P11.1: instructions, and registers of parameters. The last file of each row that is accepted has as many as a function can have.
 func TestLimitsOfFunctions(t *testing.T) {
 	checkLimit(t, "func f(@z int) { }; func main() { }", "a# int, ", 63)
-	checkLimit(t, "func f(@z int) { print(1) }; func main() { }", "a# int, ", 62)
-	checkLimit(t, "func f(g func(), h func(), @z int) { g = func() { h() } }; func main() { }", "a# int, ", 59)
-	checkLimit(t, "func main() { @}", "a# := #; ", 64)
-	checkLimit(t, "func main() { @print(1) }", "a# := #; ", 63)
-	checkLimit(t, "func e() { }; func main() { @e() }", "a# := #; ", 64)
+	checkLimit(t, "func f(@z int) { print(1) }; func main() { }", "a# int, ", 63)
+	checkLimit(t, "func f(g func(), h func(), @z int) { g = func() { h() } }; func main() { }", "a# int, ", 61)
 	checkLimit(t, "func main() { @}", "print(#); ", 499)
 	checkLimit(t, "func main() { @return; }", "print(#); ", 499)
 	checkLimit(t, "func main() { @x := 1 }", "print(#); ", 499)
 	source(t, in("func f(@z int) { }; func main() { f("+list(63, "#, ")+" 1) }", 63, "a# int, "))
 	source(t, in("func f(@z int) { }; func main() { go f("+list(63, "#, ")+" 1); defer f("+list(63, "#, ")+" 1) }", 63, "a# int, "))
+}
+
+// P11.1: variables whose values are needed behind a statement. The last file that is accepted needs all registers.
+func TestLimitsOfVariables(t *testing.T) {
+	for _, x := range []struct {
+		statement string
+		most      int
+	}{
+		{"", 63},
+		{"print(1)", 63},
+		{"x = x", 62},
+		{"print(x + x)", 62},
+		{"print(x + (x + x))", 61},
+		{"print(1 + (x + 2))", 62},
+		{"k(a0, 1)", 63},
+		{"x = k(a0, 1)", 62},
+		{"x = k(x, k(x, k(x, 1)))", 60},
+		{"func() { x = 1 }()", 63},
+		{"select { case <-c: x = 1; case c <- x: default: }", 61},
+		{"select { case z := <-c: x = z; case <-c: }", 61},
+		{"at.CompareAndSwap(1, 2)", 61},
+		{"go at.CompareAndSwap(1, 2)", 60},
+		{"if a0 < 1 { x = 1 } else { a0 = 2 }", 62},
+		{"for a0 < 1 { a0 = a0 + 1 }", 63},
+	} {
+		text := func(n int) string {
+			return "var x int; var c chan int; var at atomic; func k(i int, j int) int { return i }; func main() {\n" +
+				list(n, "a# := x\n") + x.statement + "\n" + list(n, "x = a#\n") + "}"
+		}
+		if p, at, e := Source(text(x.most)); e != api.OK || !code.Valid(p) {
+			t.Errorf("%s with %d variables: %d %v", x.statement, x.most, at, e)
+		}
+		if p, at, e := Source(text(x.most + 1)); e != api.ErrLimit || at != 0 || !code.Equal(p, api.Program{}) {
+			t.Errorf("%s with %d variables: %d %v", x.statement, x.most+1, at, e)
+		}
+	}
 }

@@ -78,6 +78,15 @@ func (t *tables) add(f function) int {
 	return len(t.functions) - 1
 }
 
+// params returns the numbers of parameters of the functions.
+func (t *tables) params() []int {
+	var l []int
+	for _, f := range t.functions {
+		l = append(l, f.params)
+	}
+	return l
+}
+
 // addDeclared adds a function that the file declares, and its inner functions.
 func (t *tables) addDeclared(n *api.Node) {
 	number := t.add(function{

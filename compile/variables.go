@@ -1,8 +1,6 @@
 package compile
 
 import (
-	"slices"
-
 	"interleave/api"
 	"interleave/types"
 )
@@ -11,49 +9,21 @@ import (
 type variables struct {
 	locals   []api.Local
 	places   []int               // the register of each local variable: it contains the value, or the object of a boxed variable
-	fixed    map[int]int         // the registers of the parameters and of the variables in a window
 	captured map[api.Capture]int // the numbers of the captured values
 }
 
-// window is a range of registers for the captured variables of literals. The variables of the function itself among them are always
-// there, so that they need no other registers while a closure is made.
-type window struct {
-	captures []api.Capture
-	base     int // the register before the range, for the closure
-}
-
 func newVariables(f function) variables {
-	v := variables{locals: f.locals, fixed: map[int]int{}, captured: map[api.Capture]int{}}
-	v.places = make([]int, len(v.locals))
-	for i, l := range v.locals {
-		if l.Param {
-			v.fixed[i] = i
-		}
-	}
+	v := variables{locals: f.locals, places: make([]int, len(f.locals)), captured: map[api.Capture]int{}}
 	for i, c := range f.captures {
 		v.captured[c] = i
 	}
 	return v
 }
 
-// reserve takes the registers of a window.
-func (g *generator) reserve(captures []api.Capture) {
-	if len(captures) == 0 {
-		return
-	}
-	g.window = window{captures, g.fresh()}
-	for _, v := range captures {
-		register := g.fresh()
-		if v.Up == 1 {
-			g.fixed[v.Num] = register
-		}
-	}
-}
-
-// place returns the register of a variable that is declared next.
+// place returns the register of a variable that is declared next. Parameters have the first registers.
 func (g *generator) place(n *api.Node) int {
-	if register, found := g.fixed[n.Num]; found {
-		return register
+	if g.locals[n.Num].Param {
+		return n.Num
 	}
 	return g.next
 }
@@ -128,30 +98,17 @@ func (g *generator) cell(n *api.Node) int {
 	return g.places[n.Num]
 }
 
-// literal generates the closure of a function literal.
+// literal generates the closure of a function literal. The registers behind it get the objects of the captured variables.
 func (g *generator) literal(n *api.Node) int {
-	register := g.next
+	register := g.fresh()
 	captures := g.functions[g.inner[n]].captures
-	if len(captures) > 0 && slices.Equal(captures, g.window.captures) {
-		g.closure(n, g.base, captures)
-		return g.result(n, api.OpMove, register, g.base, 0)
-	}
-	for range len(captures) + 1 {
-		g.fresh()
-	}
-	g.closure(n, register, captures)
-	return g.reuse(register)
-}
-
-// closure generates the closure of a literal in a register. The registers behind it get the objects of the captured variables.
-func (g *generator) closure(n *api.Node, base int, captures []api.Capture) {
-	for i, v := range captures {
-		register := base + 1 + i
+	for _, v := range captures {
+		object := g.fresh()
 		if outer := v.Up - 1; outer > 0 {
-			g.emit(n, api.OpCap, register, g.captured[api.Capture{Up: outer, Num: v.Num}], 0)
-		} else if g.places[v.Num] != register {
-			g.emit(n, api.OpMove, register, g.places[v.Num], 0)
+			g.emit(n, api.OpCap, object, g.captured[api.Capture{Up: outer, Num: v.Num}], 0)
+		} else {
+			g.emit(n, api.OpMove, object, g.places[v.Num], 0)
 		}
 	}
-	g.emit(n, api.OpClosure, base, g.inner[n], len(captures))
+	return g.result(n, api.OpClosure, register, g.inner[n], len(captures))
 }
