@@ -123,8 +123,8 @@ func isCrowded(f api.Node) bool {
 	return slices.ContainsFunc(t.functions, func(fn function) bool { return !fits(generate(t, fn)) })
 }
 
-// P11.1 and P11.2: moderate files in which few registers remain are accepted, but for very few in which a literal and the operands
-// around it need more than there are, and do what their trees specify.
+// P11.1, P11.2 and P11.4: moderate files in which few registers remain are accepted, but for very few in which a literal and the
+// operands around it need more than there are. They do what their trees specify, and names do not matter.
 func TestCrowdedFiles(t *testing.T) {
 	w := &crowd{chooser: &chooser{state: 53}}
 	seen := counts{}
@@ -143,8 +143,11 @@ func TestCrowdedFiles(t *testing.T) {
 			continue
 		}
 		seen["crowded"]++
+		if !code.Valid(p) || !code.Equal(p, accepted(t, changedNames(f, false))) {
+			t.Fatal(syntax.Print(f))
+		}
 		a, b := compiled(p), walked(newTree(f))
-		if d := run(a, b, w.chooser, seen, memoryDifference, budgetDifference); d != "" || !code.Valid(p) {
+		if d := run(a, b, w.chooser, seen, memoryDifference, budgetDifference); d != "" {
 			t.Fatalf("%s\n%s", syntax.Print(f), d)
 		}
 		b.stop()

@@ -109,6 +109,8 @@ func TestExamples(t *testing.T) {
 			"recv 0 0 1; add 0 0 1; return 0"},
 		{2, 3, "const 2 7; select 3 2 1; case 0 1 2; case 1 0 4; const 5 1; lt 5 3 5; jumpz 5 9; print 3; return -1; print 4; return -1",
 			"const 2 7; select 0 2 1; case 0 1 2; case 1 0 1; const 2 1; lt 2 0 2; jumpz 2 9; print 0; return -1; print 1; return -1"},
+		{1, 3, "jumpz 0 3; load 1 0; jump 8; load 2 0; move 1 0; jumpz 2 8; print 0; load 1 0; print 1; return 0",
+			"jumpz 0 3; load 1 0; jump 10; load 1 0; move 2 1; move 1 0; jumpz 2 10; print 0; load 2 0; move 1 2; print 1; return 0"},
 		{1, 1, "jump 2; print 0; once 0 5; callc 0; jump 0; return -1",
 			"jump 1; once 0 4; callc 0; jump 0; return -1"},
 		{1, 1, "print 0; return 0; print 0; jump 2",
@@ -121,6 +123,24 @@ func TestExamples(t *testing.T) {
 		}
 		if g, ok := Func(f, paramCounts, x.least-1); ok || len(g.Code) > 0 || g.Name != "" || g.Regs != 0 {
 			t.Errorf("%s\n%s", x.before, listing(g))
+		}
+	}
+}
+
+// With more registers than needed, values that can be made again stay in them, and so do the values of names in loops.
+func TestSpareRegisters(t *testing.T) {
+	for _, x := range []struct {
+		params, limit int
+		before, after string
+	}{
+		{1, 3, "const 1 7; const 2 8; print 1; print 2; print 1; return 0", "const 1 7; print 1; const 2 8; print 2; print 1; return 0"},
+		{1, 3, "const 1 7; print 1; new 2 0; print 2; print 1; return 0", "const 1 7; print 1; new 2 0; print 2; print 1; return 0"},
+		{2, 4, "move 2 1; call -1 1 2; new 3 0; print 1; print 2; print 3; return 0", "call -1 1 1; new 2 0; print 1; print 1; print 2; return 0"},
+		{2, 3, "const 2 1; move 3 2; call -1 1 3; call -1 1 2; move 2 1; call -1 1 2; return 0", "const 2 1; call -1 1 2; call -1 1 2; call -1 1 1; return 0"},
+		{1, 4, "load 1 0; load 2 0; jumpz 0 6; load 1 1; load 2 2; jump 2; print 1; return 2", "load 1 0; load 2 0; jumpz 0 6; load 1 1; load 2 2; jump 2; print 1; return 2"},
+	} {
+		if g, ok := Func(function(t, x.params, x.before), paramCounts, x.limit); !ok || listing(g) != x.after {
+			t.Errorf("%s\n%v %s", x.before, ok, listing(g))
 		}
 	}
 }
