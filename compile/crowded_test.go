@@ -16,7 +16,8 @@ import (
 type crowd struct {
 	*chooser
 	names  int
-	levels int // of functions with variables of their own
+	levels int  // of functions with variables of their own
+	stops  bool // whether there are statements behind which nothing is executed
 }
 
 const crowdHead = `type T struct { n int; on once; t *T }
@@ -54,12 +55,22 @@ func (w *crowd) body(level int, visible []string) string {
 	}
 	all := slices.Concat(visible, own)
 	for range pick(w.chooser, []int{1, 1, 1, 2, 3}) {
+		text += w.stop()
 		text += w.statement(level, pick(w.chooser, [][]string{all, all, visible}), own)
 	}
 	if w.below(3) == 0 {
 		text += w.uses(w.some(own))
 	}
 	return text
+}
+
+// stop writes a statement behind which nothing is executed, or only in some runs, or nothing.
+func (w *crowd) stop() string {
+	if !w.stops || w.below(3) > 0 {
+		return ""
+	}
+	return pick(w.chooser, []string{"return\n", "return\n", "for { }\n", "select { }\n", "{ return }\n", "if x < 2 { return } else { return }\n",
+		"if b { for { } } else if x < 2 { return } else { return }\n", "if x < 2 { return }\n", "for b { return }\n", "select { case <-c: return; default: return }\n"})
 }
 
 func (w *crowd) statement(level int, visible, own []string) string {

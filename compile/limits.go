@@ -1,6 +1,8 @@
 package compile
 
 import (
+	"slices"
+
 	"interleave/api"
 	"interleave/squeeze"
 )
@@ -17,17 +19,33 @@ func (t *tables) fit() bool {
 	return len(t.functions) <= api.MaxFuncs && len(t.globals) <= api.MaxGlobals && len(t.layouts) <= api.MaxLayouts
 }
 
-// shrink returns a function with the same behavior that is within the limits, and false if none is found. The generator gives every
-// variable a register up to the end of its scope, and every operand up to the instruction that needs it; few functions are so large
-// that this is too much.
-func shrink(t *tables, f api.Func) (api.Func, bool) {
-	if fits(f) {
-		return f, true
+// shrink replaces the functions of a program that are beyond the limits by ones with the same behavior, and reports whether this
+// succeeds. The generator gives every variable a register up to the end of its scope, and every operand up to the instruction that
+// needs it; few functions are so large that this is too much. Params are the numbers of parameters of the functions.
+func shrink(p *api.Program, params []int) bool {
+	isCalled := called(*p)
+	for i, f := range p.Funcs {
+		if !fits(f) && !isCalled[i] {
+			f = unused(f)
+		}
+		if !fits(f) {
+			smaller, ok := squeeze.Func(reduced(f), params, api.MaxRegs)
+			if !ok {
+				return false
+			}
+			f = smaller
+		}
+		p.Funcs[i] = f
 	}
-	return squeeze.Func(f, t.params(), api.MaxRegs)
+	return true
 }
 
-func fits(f api.Func) bool { return f.Regs <= api.MaxRegs && len(f.Code) <= api.MaxCode }
+// fits reports whether a function is within the limits. A function literal that uses more captured values than a closure can have is
+// never called in a program whose other functions fit, because evaluating it takes too many registers.
+func fits(f api.Func) bool {
+	isBeyond := func(in api.Instr) bool { return in.Op == api.OpCap && in.B > api.MaxCells-2 }
+	return f.Regs <= api.MaxRegs && len(f.Code) <= api.MaxCode && !slices.ContainsFunc(f.Code, isBeyond)
+}
 
 // selectsFit reports whether no select statement within a node has too many cases.
 func selectsFit(n *api.Node) bool {

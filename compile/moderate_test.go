@@ -215,6 +215,8 @@ func TestModerateLiterals(t *testing.T) {
 		"d0 := 1; d1 := 2; func() {\nU d0 = d1 }()\nfunc() {\nU d1 = d0 }()",
 		"for x < 2 { x = x + 1; d0 := 1; d1 := 2; func() {\nU d0 = d1 }()\nfunc() {\nd0 = d1; U }() }",
 		"d0 := 1; d1 := 2; d2 := 3; func() {\nU d0 = d1; d2 = 2 }()",
+		"d0 := 1; d1 := 2; d2 := 3; func() {\nU d0 = d1; d2 = 2 }(); func() { print(d0 + d1 + d2) }()",
+		"if x < 1 { d0 := 1; d1 := 2; d2 := 3; func() {\nU d0 = d1; d2 = 2 }(); func() { print(d0); d1 = d2 }() } else { func() {\nU}() }",
 		"d0 := 1; d1 := 2; d2 := 3; a0 = d0; defer func() {\nd2 = 2; U d0 = d1 }()",
 		"d0 := 1; d1 := 2; d2 := 3; if x < 1 { go func() {\nd2 = 2; U d0 = d1 }() } else { func() {\nd1 = d0; d2 = 4; U }() }",
 	} {

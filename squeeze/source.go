@@ -14,7 +14,7 @@ type source struct {
 	limit  int
 	loops  map[int]bool // the targets of jumps back
 	hints  map[int]int  // the registers in which some names should be
-	caps   []bool       // the names that may have a captured value, for which the closure in register 0 is needed
+	caps   [][]bool     // the names that may have a captured value before each instruction: they need the closure in register 0
 	keeps  map[int]bool // the instructions before which the closure is needed in any case
 	needs  [][]bool     // the names that are needed before each instruction
 }
@@ -33,11 +33,34 @@ func newSource(f api.Func, params []int, limit int) *source {
 
 // findCaps goes through the code only once: where a jump back leads to, captured values with other names are merged ones.
 func (s *source) findCaps() {
-	s.caps = make([]bool, s.Regs)
-	for _, in := range s.Code {
-		if in.Op == api.OpCap || in.Op == api.OpMove && s.caps[in.B] {
-			s.caps[in.A] = true
+	s.caps = make([][]bool, len(s.Code))
+	for pc := range s.Code {
+		s.caps[pc] = make([]bool, s.Regs)
+	}
+	for pc := range s.Code {
+		caps := s.capsBehind(pc)
+		for _, next := range code.Next(s.Func, pc) {
+			if next > pc {
+				include(s.caps[next], caps)
+			}
 		}
+	}
+}
+
+// capsBehind returns the names that may have a captured value after an instruction.
+func (s *source) capsBehind(pc int) []bool {
+	caps := slices.Clone(s.caps[pc])
+	in := s.Code[pc]
+	for _, name := range s.operandsOf(s.group(pc)).written() {
+		caps[name] = in.Op == api.OpCap || in.Op == api.OpMove && s.caps[pc][in.B]
+	}
+	return caps
+}
+
+// include adds other names to some names.
+func include(names, others []bool) {
+	for name, isOne := range others {
+		names[name] = names[name] || isOne
 	}
 }
 
@@ -65,7 +88,11 @@ func (s *source) before(pc int) []bool {
 	}
 	for _, name := range o.read() {
 		needs[name] = true
-		needs[0] = needs[0] || s.caps[name]
+	}
+	for name, isCap := range s.caps[pc] {
+		if isCap && needs[name] {
+			needs[0] = true
+		}
 	}
 	if s.keeps[pc] {
 		needs[0] = true
@@ -77,9 +104,7 @@ func (s *source) before(pc int) []bool {
 func (s *source) after(pc int) []bool {
 	needs := make([]bool, s.Regs)
 	for _, next := range code.Next(s.Func, pc) {
-		for name, isNeeded := range s.needs[next] {
-			needs[name] = needs[name] || isNeeded
-		}
+		include(needs, s.needs[next])
 	}
 	return needs
 }

@@ -178,10 +178,20 @@ func (s *store) assign() {
 			}
 		}
 		if waiting >= 0 && !filled {
-			s.fill(s.take(), s.held[waiting]) // the registers wait for each other
+			s.spend()
+			s.fill(s.take(), s.held[waiting])
 		}
 	}
 	clear(s.want)
+}
+
+// spend gives up the closure if a result will take its register, so that it is not needed behind the current instruction. It is called
+// when registers wait for each other: these wait for values that cannot be made, so all values that are made from the closure have been
+// made.
+func (s *store) spend() {
+	if s.want[0] < 0 {
+		s.needed[s.closure] = false
+	}
 }
 
 // cost returns how many registers do not hold what they will hold.
